@@ -1,0 +1,1 @@
+"""Texts of graphs drawn in layers."""

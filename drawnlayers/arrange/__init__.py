@@ -1,0 +1,1 @@
+"""Orders of least price, and the edges that are turned."""

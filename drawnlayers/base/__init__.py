@@ -1,0 +1,1 @@
+"""Small tools that several parts use."""

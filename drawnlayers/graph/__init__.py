@@ -1,0 +1,1 @@
+"""Graphs, and how they are built from statements."""

@@ -1,0 +1,8 @@
+"""The bounds on sound graphs."""
+
+MOST_ITEMS = 8
+MOST_EDGES = 12
+MOST_ITEMS_IN_ALL = 20
+MOST_EDGES_IN_ALL = 30
+MOST_LOTS = 6
+DEEPEST = 3

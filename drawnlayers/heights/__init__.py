@@ -1,0 +1,1 @@
+"""Heights that keep bounds and are pulled together; ranks."""

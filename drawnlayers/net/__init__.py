@@ -1,0 +1,1 @@
+"""Nets of items and stations."""

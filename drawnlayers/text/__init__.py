@@ -1,0 +1,1 @@
+"""Statements, lines and texts."""

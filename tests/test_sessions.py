@@ -1,0 +1,43 @@
+"""The calls that the document shows ahead of its interface, as far as their modules are there."""
+
+import unittest
+
+from drawnlayers.arrange.turning import closing_ring
+from drawnlayers.errors import BadLine, RisingRing
+from drawnlayers.graph.build import build_graph
+from drawnlayers.heights.best import best_heights
+from drawnlayers.heights.system import is_balanced, worth
+from drawnlayers.text.lines import read_line
+from drawnlayers.text.texts import read_text
+
+
+class SessionsTest(unittest.TestCase):
+    def test_reading(self):
+        self.assertEqual(read_line("node ab label=A.1 width=9"), ("node", "ab", (("label", "A.1"), ("width", 9))))
+        with self.assertRaises(BadLine) as caught:
+            read_line("edge a  b")
+        self.assertEqual(caught.exception.line, 0)
+        with self.assertRaises(BadLine) as caught:
+            read_text("group\nnode A\nend")
+        self.assertEqual(caught.exception.line, 1)
+
+    def test_building(self):
+        self.assertEqual(
+            build_graph((("edge", ("a", "b"), ()),)),
+            ((2, 4, 2), (("a", "$", 1, 1, None), ("b", "$", 1, 1, None)), (), ((0, 1, "", 1, 1, 1, False),)))
+
+    def test_closing_a_ring(self):
+        self.assertEqual(closing_ring(build_graph(read_text("edge a b price=1\nedge b c a price=3")), 0), (0, 1, 2))
+
+    def test_heights(self):
+        system = (3, ((0, 1, 2), (1, 2, 2)), ((0, 2, 1, 3),))
+        self.assertEqual(best_heights(system), (0, 2, 4))
+        self.assertTrue(is_balanced(system, ((3,), (3, 3))))
+        self.assertEqual(worth(system, ((3,), (3, 3))), 9)
+        with self.assertRaises(RisingRing) as caught:
+            best_heights((2, ((0, 1, 2), (1, 0, -1)), ()))
+        self.assertIn(caught.exception.ring, ((0, 1), (1, 0)))
+
+
+if __name__ == "__main__":
+    unittest.main()
