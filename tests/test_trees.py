@@ -6,6 +6,7 @@ import unittest
 
 from drawnlayers.errors import RisingRing
 from drawnlayers.heights.best import best_heights
+from drawnlayers.heights.spanning import spanning_tree
 from drawnlayers.heights.system import cost, keeps
 from drawnlayers.heights.trees import check_tree, cut_value, link_system, tree_heights
 from test_least_heights import is_rising_ring
@@ -162,6 +163,22 @@ class TreesTest(unittest.TestCase):
                 self.assertIs(check_tree(count, links, heights, other), False)
             lifted = tuple(height - 100 for height in heights)
             self.assertIs(check_tree(count, links, lifted, tree), True)
+
+    def test_trees_from_forces_that_run_in_rings(self):
+        diamond = ((0, 1, 1, 1), (0, 2, 1, 1), (1, 3, 1, 1), (2, 3, 1, 1), (0, 3, 2, 0))
+        tree = spanning_tree(4, diamond, (0, 1, 1, 2), ((1, 1, 1, 1, 0), (1, 1, 1, 1, 0)))
+        self.assertTrue(is_tree_by_words(4, diamond, (0, 1, 1, 2), tree))
+        source = random.Random(67)
+        for _ in range(200):
+            count = source.randint(2, 10)
+            heights = tuple(source.randint(0, 6) for _ in range(count))
+            pairs = [(a, b) for a in range(count) for b in range(count) if 1 <= heights[b] - heights[a] <= 4]
+            chosen = [source.choice(pairs) for _ in range(source.randint(0, 20))] if pairs else []
+            links = tuple((a, b, heights[b] - heights[a], source.randint(0, 9)) for a, b in chosen)
+            # Where every link has just its gap, forces as great as the weights support the heights.
+            weights = tuple(link[3] for link in links)
+            tree = spanning_tree(count, links, heights, (weights, weights))
+            self.assertTrue(is_tree_by_words(count, links, heights, tree), (links, heights, tree))
 
     def test_rising_rings(self):
         with self.assertRaises(RisingRing) as caught:

@@ -11,8 +11,10 @@ def length_slack(link, heights):
 def spanning_heights(count, links, heights):
     """Return best heights at which any two connected unknowns are connected by links without slack.
 
-    The heights given are best. A part that is joined by links without slack can be moved up or down by 1;
-    as neither is better, moving it costs nothing, until another link comes to be without slack.
+    The heights given are the least best ones. A part that is joined by links without slack can be moved up or
+    down by 1; as neither is better, moving it costs nothing, until another link comes to be without slack.
+    At first each part has an unknown at 0 (otherwise it could be lower), and it then joins one that was not
+    moved; so in the end each part still has an unknown at 0.
     """
     lifted = list(heights)
     marks = _tight_marks(count, links, lifted)
@@ -23,7 +25,7 @@ def spanning_heights(count, links, heights):
         lifted = [height + rise if marks[at] == part else height for at, height in enumerate(lifted)]
         marks = _tight_marks(count, links, lifted)
         loose = _links_between(links, marks)
-    return _lowered(lifted, marks)
+    return tuple(lifted)
 
 
 def spanning_tree(count, links, heights, forces):
@@ -44,14 +46,6 @@ def _tight_marks(count, links, heights):
 
 def _links_between(links, marks):
     return [link for link in links if marks[link[0]] != marks[link[1]]]
-
-
-def _lowered(heights, marks):
-    """Return the heights with each part moved so that its least height is 0."""
-    lowest = {}
-    for mark, height in zip(marks, heights):
-        lowest[mark] = min(height, lowest.get(mark, height))
-    return tuple([height - lowest[mark] for mark, height in zip(marks, heights)])
 
 
 def _forest_flows(links, forces):
