@@ -3,10 +3,11 @@
 import itertools
 import random
 
-from drawnlayers.errors import DrawError
+from drawnlayers.errors import DrawError, TooWide
 from drawnlayers.graph.build import build_graph
 from drawnlayers.graph.graphs import class_list
 from drawnlayers.text.texts import read_text
+from drawnlayers.whole.plan import plan_of
 
 
 def graph_of(*lines):
@@ -92,3 +93,170 @@ def has_ring(count, arcs):
             return True
         left -= free
     return False
+
+
+def random_rich_graphs(many, seed=1):
+    """Graphs as random_graphs makes them, with settings, and with labels and sizes at their items; some are lots."""
+    source = random.Random(seed)
+    for settings, items, classes, edges in random_graphs(many, seed):
+        settings = (source.randint(1, 9), source.randint(2, 20), source.randint(1, 9))
+        rich = []
+        for item in items:
+            label = source.choice(("", "$", "A.1", "$$", "long_1"))
+            inner = None
+            if source.random() < 0.3:
+                inner = ((2, 4, source.randint(1, 9)), (), (), ())
+            rich.append((item[0], label, source.randint(1, 30), source.randint(1, 20), inner))
+        yield (settings, tuple(rich), classes, edges)
+
+
+def random_insides(source, graph, top=40):
+    """Sizes of the insides of the lots of a graph."""
+    return {item[0]: (source.randint(0, top), source.randint(0, top)) for item in graph[1] if item[4] is not None}
+
+
+def planned_graphs(many, seed=1):
+    """Graphs as random_rich_graphs makes them, with their plans and sizes for their lots."""
+    source = random.Random(seed)
+    for graph in random_rich_graphs(many, seed):
+        try:
+            yield graph, plan_of(graph), random_insides(source, graph)
+        except TooWide:
+            continue
+
+
+def random_texts(many, seed=1):
+    """Texts with groups, lots, defaults and classes that can be built."""
+    source = random.Random(seed)
+    for _ in range(many):
+        kept, opened = [], 0
+        for _ in range(source.randint(1, 30)):
+            line = random_line(source)
+            deeper = opened + (line.split(" ")[0] in ("group", "lot")) - (line == "end")
+            try:
+                graph_of(*kept, line, *["end"] * max(deeper, 0))
+            except DrawError:
+                continue
+            kept.append(line)
+            opened = deeper
+        yield "\n".join(kept + ["end"] * opened)
+
+
+def random_line(source):
+    def options(*words):
+        return "".join(" " + word for word in words if source.random() < 0.4)
+
+    word = source.choice(("node", "node", "lot", "edge", "edge", "edge", "nodes", "edges", "graph", "same", "group", "end"))
+    name = source.choice("abcdefghijkl")
+    boxes = (f"label={source.choice(('', '$', 'A'))}", f"width={source.choice((1, 1, 30))}", f"height={source.choice((1, 20))}")
+    joints = (f"weight={source.choice((0, 1, 9))}", f"span={source.choice((1, 4))}", f"price={source.choice((1, 9))}",
+              f"firm={source.choice(('yes', 'no'))}")
+    rooms = (f"across={source.choice((1, 2, 9))}", f"down={source.choice((2, 4, 20))}", f"margin={source.choice((1, 2, 9))}")
+    if word in ("node", "lot"):
+        return f"{word} {name}" + options(*boxes)
+    if word == "edge":
+        names = source.sample("abcdefghijkl", source.randint(1, 3)) + [name]
+        return "edge " + " ".join(names) + options(f"label={source.choice(('', 'x'))}", *joints)
+    if word == "same":
+        return "same " + " ".join(source.sample("abcdefghijkl", source.randint(2, 3)))
+    if word == "nodes":
+        return "nodes" + (options(*boxes) or " width=3")
+    if word == "edges":
+        return "edges" + (options(*joints) or " span=2")
+    if word == "graph":
+        return "graph" + (options(*rooms) or " down=9")
+    return word
+
+
+def level_rows(net):
+    """The places of each level, ascending."""
+    return [tuple(place for place, at in enumerate(net[0]) if at == level) for level in range(max(net[0], default=-1) + 1)]
+
+
+def all_orders(net):
+    return itertools.product(*[itertools.permutations(row) for row in level_rows(net)])
+
+
+def random_orders(source, net):
+    return tuple(tuple(source.sample(row, len(row))) for row in level_rows(net))
+
+
+def crossings_by_words(net, orders):
+    """Point 44 and point 51, straight."""
+    levels, segments = net
+    found = 0
+    for (up, low), (other_up, other_low) in itertools.combinations(segments, 2):
+        if levels[up] != levels[other_up]:
+            continue
+        row, next_row = orders[levels[up]], orders[levels[up] + 1]
+        is_left = row.index(up) < row.index(other_up)
+        is_right = row.index(up) > row.index(other_up)
+        ends_left = next_row.index(low) < next_row.index(other_low)
+        ends_right = next_row.index(low) > next_row.index(other_low)
+        found += (is_left and ends_right) or (is_right and ends_left)
+    return found
+
+
+def shuffled_rows(source, sizes):
+    """Levels with so many places, numbered in any order, and the places of each of them."""
+    levels = [level for level, many in enumerate(sizes) for _ in range(many)]
+    source.shuffle(levels)
+    rows = level_rows((levels, ()))
+    return tuple(levels), rows
+
+
+def random_net(source, sizes, most):
+    """A net with up to so many segments between two levels; some may stand twice."""
+    levels, rows = shuffled_rows(source, sizes)
+    segments = [(source.choice(uppers), source.choice(lowers))
+                for uppers, lowers in zip(rows, rows[1:]) for _ in range(source.randint(0, min(most, 13)))]
+    source.shuffle(segments)
+    return (levels, tuple(segments))
+
+
+def random_strips(source, sizes, kept=1.0):
+    """A net that some orders draw without a crossing; each segment of a full one is kept with this chance."""
+    levels, rows = shuffled_rows(source, sizes)
+    rows = [source.sample(row, len(row)) for row in rows]
+    segments = []
+    for uppers, lowers in zip(rows, rows[1:]):
+        at = below = 0
+        strip = [(uppers[0], lowers[0])]
+        while len(strip) < len(uppers) + len(lowers) - 1:
+            if below == len(lowers) - 1 or (at < len(uppers) - 1 and source.random() < 0.5):
+                at += 1
+            else:
+                below += 1
+            strip.append((uppers[at], lowers[below]))
+        segments.extend(segment for segment in strip if source.random() < kept)
+    source.shuffle(segments)
+    return (levels, tuple(segments))
+
+
+def small_nets(many, seed):
+    """Nets small enough for a search through all orders."""
+    source = random.Random(seed)
+    for _ in range(many):
+        sizes = source.choice(([2, 2], [3, 3], [2, 3, 2], [4, 3], [1, 3, 3], [3, 1, 3], [2, 2, 2, 2], [3, 3, 3], [4]))
+        yield random_net(source, sizes, source.choice((3, 6, 9)))
+
+
+# The most places, and the most of them on a level, that point 42 allows.
+GREAT_SIZES = ([7, 7, 7, 7, 7, 1], [1, 7, 7, 7, 7, 7], [6] * 6, [5, 7, 7, 7, 7, 3], [1] * 36, [2] * 18)
+
+
+def great_nets(many, seed):
+    """Nets at the bounds of point 42: full ones, broken ones and any ones."""
+    source = random.Random(seed)
+    for _ in range(many):
+        sizes = source.choice(GREAT_SIZES)
+        if source.random() < 0.3:
+            yield random_net(source, sizes, 13)
+            continue
+        levels, segments = random_strips(source, sizes, source.choice((1.0, 0.9, 0.5, 0.1)))
+        rows = level_rows((levels, ()))
+        if segments and source.random() < 0.5:
+            level = levels[segments[0][0]]
+            moved = (source.choice(rows[level]), source.choice(rows[level + 1]))
+            segments = (moved, *segments[1:])
+        yield (levels, segments)

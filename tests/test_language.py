@@ -166,6 +166,11 @@ class LanguageTest(unittest.TestCase):
             if isinstance(node, ast.BinOp) and isinstance(node.op, ast.Pow):
                 self.assertIsInstance(node.right, ast.Constant)
 
+    def rule_no_star_in_an_index(self, source, tree):
+        for node in ast.walk(tree):
+            if isinstance(node, ast.Subscript):
+                self.assertFalse(any(isinstance(part, ast.Starred) for part in ast.walk(node.slice)), node.lineno)
+
     def rule_names(self, source, tree):
         known = set(dir(builtins))
         imported = {alias.name for node in tree.body if isinstance(node, ast.ImportFrom) for alias in node.names}

@@ -4,9 +4,13 @@ import unittest
 
 from drawnlayers.arrange.turning import closing_ring
 from drawnlayers.errors import BadLine, RisingRing
+from drawnlayers.graph.alike import needless_lines
 from drawnlayers.graph.build import build_graph
 from drawnlayers.heights.best import best_heights
+from drawnlayers.heights.certificate import certificate
 from drawnlayers.heights.system import is_balanced, worth
+from drawnlayers.net.walkers import tied
+from drawnlayers.orders.chosen import chosen_orders
 from drawnlayers.text.lines import read_line
 from drawnlayers.text.texts import read_text
 
@@ -26,17 +30,25 @@ class SessionsTest(unittest.TestCase):
             build_graph((("edge", ("a", "b"), ()),)),
             ((2, 4, 2), (("a", "$", 1, 1, None), ("b", "$", 1, 1, None)), (), ((0, 1, "", 1, 1, 1, False),)))
 
+    def test_needless_lines(self):
+        self.assertEqual(needless_lines("node a\nedge a b"), [0])
+
     def test_closing_a_ring(self):
         self.assertEqual(closing_ring(build_graph(read_text("edge a b price=1\nedge b c a price=3")), 0), (0, 1, 2))
 
     def test_heights(self):
         system = (3, ((0, 1, 2), (1, 2, 2)), ((0, 2, 1, 3),))
+        self.assertEqual(certificate(system), ((0, 2, 4), ((3,), (3, 3)), (None, ("bound", 0), ("bound", 1))))
         self.assertEqual(best_heights(system), (0, 2, 4))
         self.assertTrue(is_balanced(system, ((3,), (3, 3))))
         self.assertEqual(worth(system, ((3,), (3, 3))), 9)
         with self.assertRaises(RisingRing) as caught:
             best_heights((2, ((0, 1, 2), (1, 0, -1)), ()))
         self.assertIn(caught.exception.ring, ((0, 1), (1, 0)))
+
+    def test_walkers_and_orders(self):
+        self.assertEqual(tied(((0, 0, 1, 1), ((0, 2), (1, 3))), (0, 1), (2, 3)), (True, False))
+        self.assertEqual(chosen_orders(((0, 0, 1, 1), ((0, 2), (0, 3), (1, 2), (1, 3)))), ((0, 1), (2, 3)))
 
 
 if __name__ == "__main__":

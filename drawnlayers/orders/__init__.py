@@ -1,0 +1,1 @@
+"""Orders of the levels of a net, and their crossings."""

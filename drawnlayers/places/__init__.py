@@ -1,0 +1,1 @@
+"""Sizes of boxes and notes, and where they are placed."""

@@ -1,0 +1,1 @@
+"""Whole graphs and pictures."""
