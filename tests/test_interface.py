@@ -54,6 +54,28 @@ INTERFACE = {
     "places.sizes": {"box_sizes": "(graph, plan, inner)", "note_of": "(graph, plan, place)"},
     "places.offsets": {"offsets": "(graph, plan, inner)"},
     "places.system": {"place_system": "(graph, plan, inner)"},
+    "places.layout": {"layout_of": "(graph, plan, inner)"},
+    "ways.spans": {"Span": "(low, high)", "common": "(*spans)"},
+    "ways.slots": {"slot_of": "(graph, plan, layout, place)"},
+    "ways.runs": {"runs": "(chain)", "way": "(chain)", "bends": "(stops)", "blocking_pairs": "(chain)",
+                  "check_way": "(chain, stops, pairs)"},
+    "ways.ratios": {"Ratio": "(top, bottom=1)"},
+    "ways.leads": {"Lead": "(x0, x1)"},
+    "ink.marks": {"is_mark": "(mark)", "begin_of": "(mark)", "end_of": "(mark)", "moved_mark": "(mark, dx, dy)",
+                  "write_mark": "(mark)", "read_mark": "(line)"},
+    "ink.ink": {"Ink": "(marks)", "joined": "(*inks)"},
+    "ink.follow": {"follow": "(ink, x, y)"},
+}
+
+# What the body of each class itself defines.
+METHODS = {
+    ("arrange.costs", "Costs"): "__getitem__ __setitem__ __add__ __iadd__ put rows of",
+    ("ways.spans", "Span"): "__and__ __or__ __add__ __radd__ __sub__ __rshift__ __lshift__ __neg__ __abs__ __contains__ many "
+                            "nearest at",
+    ("ways.ratios", "Ratio"): "__add__ __radd__ __sub__ __rsub__ __mul__ __rmul__ __floordiv__ __mod__ __pow__ __neg__ __abs__ "
+                              "below same written",
+    ("ways.leads", "Lead"): "__call__ meeting",
+    ("ink.ink", "Ink"): "__len__ __contains__ __iter__ __add__ __and__ __sub__ marks moved written read",
 }
 
 
@@ -67,6 +89,22 @@ class InterfaceTest(unittest.TestCase):
                 with self.subTest(module=name, name=word):
                     self.assertIn(word, defined)
                     self.assertEqual(str(inspect.signature(getattr(module, word))), signature)
+
+    def test_each_class_defines_its_methods_itself(self):
+        for (name, word), methods in METHODS.items():
+            own = vars(getattr(importlib.import_module("drawnlayers." + name), word))
+            for method in methods.split():
+                with self.subTest(name=word, method=method):
+                    self.assertIn(method, own)
+
+    def test_kinds_of_methods(self):
+        spans, ink = (importlib.import_module("drawnlayers." + name) for name in ("ways.spans", "ink.ink"))
+        costs = importlib.import_module("drawnlayers.arrange.costs")
+        self.assertIsInstance(vars(costs.Costs)["of"], staticmethod)
+        self.assertIsInstance(vars(spans.Span)["at"], staticmethod)
+        self.assertIsInstance(vars(ink.Ink)["read"], classmethod)
+        self.assertIsInstance(vars(ink.Ink)["marks"], property)
+        self.assertTrue(inspect.isgeneratorfunction(importlib.import_module("drawnlayers.ink.follow").follow))
 
     def test_a_dict_that_is_checked_stays_as_it_was(self):
         least = importlib.import_module("drawnlayers.arrange.least")

@@ -32,6 +32,9 @@ BARRED_NODES = (
     ast.AsyncFunctionDef, ast.AsyncFor, ast.AsyncWith, ast.Await, ast.Global, ast.Nonlocal, ast.NamedExpr, ast.Div,
     ast.MatMult, ast.Match, ast.GeneratorExp, ast.SetComp, ast.AnnAssign,
 )
+# What may be imported from outside of the package.
+LIBRARY = {"math": {"gcd", "lcm", "isqrt", "comb", "perm", "factorial"}}
+MODIFYING = set("append clear extend insert pop remove reverse setdefault update sort".split())
 OPERATORS = set(
     "__init__ __eq__ __repr__ __str__ __len__ __enter__ __exit__ __call__ __iter__ __lt__ __le__ __gt__ __ge__ __ne__ "
     "__add__ __radd__ __iadd__ __sub__ __rsub__ __mul__ __rmul__ __floordiv__ __mod__ __pow__ __and__ __or__ "
@@ -54,6 +57,19 @@ def bound_names(tree):
             yield node, node.id
         elif isinstance(node, ast.alias):
             yield node, node.name
+
+
+def is_property(node):
+    return any(ast.unparse(decorator) == "property" for decorator in node.decorator_list)
+
+
+def class_parts(tree):
+    """Pairs of each class of a file and each function in its body."""
+    for node in tree.body:
+        if isinstance(node, ast.ClassDef):
+            for part in node.body:
+                if isinstance(part, ast.FunctionDef):
+                    yield node, part
 
 
 def own_methods():
@@ -99,6 +115,9 @@ class LanguageTest(unittest.TestCase):
             if isinstance(node, ast.ImportFrom):
                 self.assertIn(node, tree.body)
                 self.assertEqual(node.level, 0)
+                if node.module in LIBRARY:
+                    self.assertLessEqual({alias.name for alias in node.names}, LIBRARY[node.module])
+                    continue
                 target = ROOT.joinpath(*node.module.split(".")).with_suffix(".py")
                 self.assertTrue(target.exists(), node.module)
                 defined = set()
@@ -122,7 +141,8 @@ class LanguageTest(unittest.TestCase):
         wanted = {}
         for path in FILES:
             tree = ast.parse(path.read_text())
-            wanted[module_name(path)] = [node.module for node in tree.body if isinstance(node, ast.ImportFrom)]
+            imports = [node.module for node in tree.body if isinstance(node, ast.ImportFrom)]
+            wanted[module_name(path)] = [module for module in imports if module not in LIBRARY]
 
         def visit(name, above):
             self.assertNotIn(name, above)
@@ -205,6 +225,86 @@ class LanguageTest(unittest.TestCase):
             if isinstance(node, ast.ExceptHandler):
                 self.assertIsNotNone(node.type)
                 self.assertNotIn(ast.unparse(node.type), ("Exception", "ValueError", "IndexError", "LookupError"))
+
+    def rule_operators_and_properties_change_nothing(self, source, tree):
+        for _, part in class_parts(tree):
+            is_operator = part.name in OPERATORS - set("__init__ __enter__ __exit__ __iadd__ __setitem__".split())
+            if not is_operator and not is_property(part):
+                continue
+            for node in ast.walk(part):
+                self.assertNotIsInstance(node, (ast.AugAssign, ast.Delete, ast.Yield), part.name)
+                if isinstance(node, (ast.Attribute, ast.Subscript)):
+                    self.assertIsInstance(node.ctx, ast.Load, part.name)
+                if isinstance(node, ast.Call) and isinstance(node.func, ast.Attribute):
+                    self.assertNotIn(node.func.attr, MODIFYING, part.name)
+
+    def rule_names_of_operators_parameters(self, source, tree):
+        wanted = {"__contains__": ["self", "x"], "__getitem__": ["self", "at"], "__setitem__": ["self", "at", "worth"]}
+        wanted.update({name: ["self"] for name in ("__neg__", "__abs__", "__len__", "__iter__", "__enter__")})
+        free = ("__init__", "__call__", "__exit__")
+        for _, part in class_parts(tree):
+            if part.name in OPERATORS and part.name not in free:
+                self.assertEqual([arg.arg for arg in part.args.args], wanted.get(part.name, ["self", "other"]))
+
+    def rule_the_end_of_a_with_block(self, source, tree):
+        for _, part in class_parts(tree):
+            if part.name == "__exit__":
+                for row in part.body:
+                    self.assertIsInstance(row, ast.Assign)
+                    self.assertIsInstance(row.value, (ast.Attribute, ast.Constant))
+
+    def rule_super(self, source, tree):
+        calls = [node for node in ast.walk(tree) if isinstance(node, ast.Name) and node.id == "super"]
+        direct = 0
+        for _, part in class_parts(tree):
+            for row in part.body:
+                value = getattr(row, "value", None)
+                direct += isinstance(value, ast.Call) and ast.unparse(value.func) == "super()." + part.name
+        self.assertEqual(len(calls), direct)
+
+    def rule_names_of_caught_errors(self, source, tree):
+        for function in ast.walk(tree):
+            if isinstance(function, ast.FunctionDef):
+                names = [node.name for node in ast.walk(function) if isinstance(node, ast.ExceptHandler) and node.name]
+                self.assertEqual(len(names), len(set(names)), function.name)
+
+    def rule_no_sorting_in_place_beside_comparing_classes(self, source, tree):
+        self.assertNotIn(".sort(", source)
+
+    def rule_stars_of_calls_stand_before_names(self, source, tree):
+        for node in ast.walk(tree):
+            if isinstance(node, ast.Call):
+                for argument in node.args:
+                    if isinstance(argument, ast.Starred):
+                        self.assertIsInstance(argument.value, ast.Name, node.lineno)
+
+    def rule_generators_are_passed_plain_things(self, source, tree):
+        for node in ast.walk(tree):
+            if isinstance(node, ast.Call) and isinstance(node.func, ast.Name) and node.func.id in ("walk_graphs", "follow"):
+                for argument in node.args:
+                    self.assertIsInstance(argument, (ast.Name, ast.Attribute), node.lineno)
+
+    def test_names_of_properties_are_free_otherwise(self):
+        trees = [ast.parse(path.read_text()) for path in FILES]
+        parts = [part for tree in trees for _, part in class_parts(tree)]
+        properties = {part.name for part in parts if is_property(part)}
+        setters = {part.name for part in parts if any(ast.unparse(row).endswith(".setter") for row in part.decorator_list)}
+        self.assertLessEqual(setters, properties)
+        for part in parts:
+            if part.name in properties:
+                self.assertEqual(len(part.decorator_list), 1, part.name)
+        for tree in trees:
+            for node in ast.walk(tree):
+                if isinstance(node, ast.Attribute) and isinstance(node.ctx, ast.Store):
+                    self.assertNotIn(node.attr, properties)
+
+    def test_no_name_is_a_method_and_an_attribute(self):
+        trees = [ast.parse(path.read_text()) for path in FILES]
+        methods = {part.name for tree in trees for _, part in class_parts(tree)}
+        for tree in trees:
+            for node in ast.walk(tree):
+                if isinstance(node, ast.Attribute) and isinstance(node.ctx, ast.Store):
+                    self.assertNotIn(node.attr, methods)
 
     def rule_sets_stand_only_where_their_order_cannot_matter(self, source, tree):
         fine = set()

@@ -13,6 +13,9 @@ from drawnlayers.net.walkers import tied
 from drawnlayers.orders.chosen import chosen_orders
 from drawnlayers.text.lines import read_line
 from drawnlayers.text.texts import read_text
+from drawnlayers.ways.leads import Lead
+from drawnlayers.ways.runs import way
+from drawnlayers.ways.spans import Span
 
 
 class SessionsTest(unittest.TestCase):
@@ -49,6 +52,11 @@ class SessionsTest(unittest.TestCase):
     def test_walkers_and_orders(self):
         self.assertEqual(tied(((0, 0, 1, 1), ((0, 2), (1, 3))), (0, 1), (2, 3)), (True, False))
         self.assertEqual(chosen_orders(((0, 0, 1, 1), ((0, 2), (0, 3), (1, 2), (1, 3)))), ((0, 1), (2, 3)))
+
+    def test_ways_and_leads(self):
+        self.assertEqual(way((Span(4, 4), Span(0, 6), Span(5, 9), Span(7, 7), Span(2, 2))), (4, 4, 7, 7, 2))
+        point = Lead(0, 4).meeting(Lead(1, 0))
+        self.assertEqual([point[0].written(), point[1].written()], ["1/5", "4/5"])
 
 
 if __name__ == "__main__":

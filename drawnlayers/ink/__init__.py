@@ -1,0 +1,1 @@
+"""Inks: sets of marks, written and read."""

@@ -1,0 +1,1 @@
+"""The ways of edges: where they pass the levels, with the fewest bends."""
