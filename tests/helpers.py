@@ -5,8 +5,9 @@ import random
 
 from drawnlayers.errors import DrawError, TooWide
 from drawnlayers.graph.build import build_graph
-from drawnlayers.graph.graphs import class_list
+from drawnlayers.graph.graphs import class_list, shown_label
 from drawnlayers.text.texts import read_text
+from drawnlayers.whole.picture import draw
 from drawnlayers.whole.plan import plan_of
 
 
@@ -260,3 +261,95 @@ def great_nets(many, seed):
             moved = (source.choice(rows[level]), source.choice(rows[level + 1]))
             segments = (moved, *segments[1:])
         yield (levels, segments)
+
+
+def nested_lines(source, names, depth):
+    """Lines of a graph with lots in lots, which take their names from the list."""
+    lines, own = [], []
+    if source.random() < 0.5:
+        lines.append(f"graph across={source.choice((1, 2, 9))} down={source.choice((2, 3, 20))} margin={source.choice((1, 4, 9))}")
+    for _ in range(source.randint(1, 6)):
+        if not names:
+            break
+        own.append(names.pop())
+        options = "".join(option for option in (
+            " label=" + source.choice(("", "$$", "A.1", "$$$$$$", "x")), f" width={source.choice((1, 2, 11, 30))}",
+            f" height={source.choice((1, 4, 20))}") if source.random() < 0.4)
+        if depth < 3 and source.random() < 0.3:
+            lines += [f"lot {own[-1]}{options}", *nested_lines(source, names, depth + 1), "end"]
+        else:
+            lines.append(f"node {own[-1]}{options}")
+    for _ in range(source.choice((0, 2, 5, 9, 12)) if own else 0):
+        tail, head = (source.choice(own) for _ in range(2))
+        options = ("",) if tail == head else (f" label={source.choice(('', 'x', 'yes', 'long.1'))}", "", "")
+        options = source.choice(options) + source.choice(("", f" weight={source.randint(0, 9)}"))
+        lines.append(f"edge {tail} {head}{options}" + source.choice(("", "", f" span={source.randint(1, 4)}", " price=3")))
+    if len(own) > 2 and source.random() < 0.2:
+        lines.append("same " + " ".join(source.sample(own, 2)))
+    return lines
+
+
+def nested_texts(many, seed=1):
+    """Texts with lots in lots, many edges and settings of every size, all of which can be built."""
+    source = random.Random(seed)
+    while many > 0:
+        names = ["abcdefghijklmnopqrst"[at] * source.choice((1, 1, 2, 6)) for at in range(20)]
+        source.shuffle(names)
+        text = "\n".join(nested_lines(source, names, 0))
+        try:
+            build_graph(read_text(text))
+        except DrawError:
+            continue
+        many -= 1
+        yield text
+
+
+def crossed_texts(many, seed=1):
+    """Texts of graphs in two or three layers with many edges between them, some in a lot."""
+    source = random.Random(seed)
+    for _ in range(many):
+        lines = [f"graph across={source.randint(1, 4)} down={source.randint(2, 5)}"]
+        rows = source.choice((("abc", "def"), ("ab", "cd", "ef"), ("abcd", "efgh"), ("a", "bcd", "efg"), ("abc", "d", "efg")))
+        for row in rows[:1]:
+            lines.extend(f"node {name} width={source.choice((1, 20))}" for name in row)
+        for _ in range(source.randint(5, 12)):
+            at = source.randrange(len(rows) - 1)
+            below = rows[min(at + source.choice((1, 1, 2)), len(rows) - 1)]
+            ends = [source.choice(rows[at]), source.choice(below)]
+            lines.append("edge " + " ".join(ends) + source.choice(("", "", " label=x", " span=2", " span=3")))
+        if source.random() < 0.5:
+            lines = ["lot z", *lines, "end", "edge z y label=out", "edge z z"]
+        yield "\n".join(lines)
+
+
+def many_pictures(many, seed=1):
+    """Pairs of texts of several kinds and their pictures."""
+    for texts in (nested_texts(many, seed), crossed_texts(many, seed), random_texts(many, seed)):
+        for text in texts:
+            try:
+                yield text, draw(text)
+            except TooWide:
+                continue
+
+
+def reading_of(picture):
+    """What point 77 must read back from the ink of a picture: the boxes and the edges of its graphs."""
+    rectangles, edges = [], []
+
+    def add(name, graph, holder):
+        x, y = picture.origin(name)
+        own = []
+        for item, box in zip(graph[1], picture.layout(name)["boxes"]):
+            own.append((box[0] + x, box[1] + y))
+            word = "box" if item[4] is None else "frame"
+            rectangles.append((*own[-1], *box[2:], word, shown_label(item), holder))
+            if item[4] is not None:
+                add(item[0], item[4], own[-1])
+        edges.extend((own[edge[0]], own[edge[1]], edge[2]) for edge in graph[3])
+
+    add("", picture.graph, None)
+    rectangles.sort(key=lambda row: row[:2])
+    numbers = {row[:2]: number for number, row in enumerate(rectangles)}
+    numbers[None] = None
+    rows = tuple((*row[:6], numbers[row[6]]) for row in rectangles)
+    return (rows, tuple(sorted((numbers[tail], numbers[head], label) for tail, head, label in edges)))

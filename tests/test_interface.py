@@ -65,6 +65,16 @@ INTERFACE = {
                   "write_mark": "(mark)", "read_mark": "(line)"},
     "ink.ink": {"Ink": "(marks)", "joined": "(*inks)"},
     "ink.follow": {"follow": "(ink, x, y)"},
+    "ink.reading": {"read_back": "(ink)"},
+    "ink.meeting": {"crossings_of": "(ink)"},
+    "ink.score": {"Score": "(crossings, bends, moves)", "score_of": "(ink)"},
+    "ink.listing": {"Listing": "(boxes)", "NumberedListing": "(boxes)", "TitledListing": "(boxes)", "FullListing": "(boxes)"},
+    "whole.inking": {"graph_marks": "(graph, plan, layout, origin)"},
+    "whole.picture": {"Picture": "(graph)", "draw": "(text)"},
+    "desk.edits": {"apply_edit": "(lines, edit)", "inverse_edit": "(lines, edit)"},
+    "desk.deeds": {"write_deed": "(deed)", "read_deed": "(line)"},
+    "desk.desk": {"Desk": "(text='')"},
+    "desk.script": {"run_script": "(desk, script)"},
 }
 
 # What the body of each class itself defines.
@@ -76,6 +86,18 @@ METHODS = {
                               "below same written",
     ("ways.leads", "Lead"): "__call__ meeting",
     ("ink.ink", "Ink"): "__len__ __contains__ __iter__ __add__ __and__ __sub__ marks moved written read",
+    ("ink.score", "Score"): "__add__ __lt__ __eq__",
+    ("ink.listing", "Listing"): "rows",
+    ("ink.listing", "NumberedListing"): "rows",
+    ("ink.listing", "TitledListing"): "rows",
+    ("ink.listing", "FullListing"): "rows",
+    ("whole.picture", "Picture"): "graph ink width height score plan layout origin boxes",
+    ("desk.desk", "Desk"): "do undo redo change history would tried text lines picture ink steps undone redrawn __enter__ __exit__",
+}
+PROPERTIES = {
+    ("ink.ink", "Ink"): "marks",
+    ("whole.picture", "Picture"): "graph ink width height score",
+    ("desk.desk", "Desk"): "text lines picture ink steps undone redrawn",
 }
 
 
@@ -103,7 +125,11 @@ class InterfaceTest(unittest.TestCase):
         self.assertIsInstance(vars(costs.Costs)["of"], staticmethod)
         self.assertIsInstance(vars(spans.Span)["at"], staticmethod)
         self.assertIsInstance(vars(ink.Ink)["read"], classmethod)
-        self.assertIsInstance(vars(ink.Ink)["marks"], property)
+        for (name, word), listed in PROPERTIES.items():
+            for method in listed.split():
+                found = vars(getattr(importlib.import_module("drawnlayers." + name), word))[method]
+                self.assertIsInstance(found, property, method)
+                self.assertEqual(found.fset is not None, method == "text")
         self.assertTrue(inspect.isgeneratorfunction(importlib.import_module("drawnlayers.ink.follow").follow))
 
     def test_a_dict_that_is_checked_stays_as_it_was(self):

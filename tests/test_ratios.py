@@ -158,8 +158,12 @@ class RatiosTest(unittest.TestCase):
         for digit in bottom:
             number = number * 10 + int(digit)
         self.assertEqual(number, 7 ** 7600)
-        self.assertEqual((Ratio(-10) ** 19 * Ratio(10) ** 20 * (Ratio(10) ** 20) ** 20 * (Ratio(10) ** 20) ** 20).written(),
-                         "-1" + "0" * 839)
+        great = (Ratio(10) ** 20) ** 20 * 7
+        for many in (1, 5, 20):
+            self.assertEqual((great ** many * -1).written(), "-" + (great ** many).written())
+            self.assertEqual((great ** many * Ratio(10, 7) ** many).written(), "1" + "0" * (401 * many))
+        for number in (10 ** 59, 10 ** 60 - 1, 10 ** 60, 10 ** 60 + 1, 10 ** 120 + 7, 10 ** 180 - 1):
+            self.assertEqual((Ratio(number).written(), Ratio(-number).written()), (str(number), str(-number)))
 
 
 if __name__ == "__main__":

@@ -1,14 +1,17 @@
-"""The calls that the document shows ahead of its interface, as far as their modules are there."""
+"""The calls that the document shows ahead of its interface."""
 
 import unittest
 
 from drawnlayers.arrange.turning import closing_ring
-from drawnlayers.errors import BadLine, RisingRing
+from drawnlayers.desk.desk import Desk
+from drawnlayers.desk.script import run_script
+from drawnlayers.errors import BadLine, RisingRing, Refused
 from drawnlayers.graph.alike import needless_lines
 from drawnlayers.graph.build import build_graph
 from drawnlayers.heights.best import best_heights
 from drawnlayers.heights.certificate import certificate
 from drawnlayers.heights.system import is_balanced, worth
+from drawnlayers.ink.reading import read_back
 from drawnlayers.net.walkers import tied
 from drawnlayers.orders.chosen import chosen_orders
 from drawnlayers.text.lines import read_line
@@ -16,6 +19,7 @@ from drawnlayers.text.texts import read_text
 from drawnlayers.ways.leads import Lead
 from drawnlayers.ways.runs import way
 from drawnlayers.ways.spans import Span
+from drawnlayers.whole.picture import draw
 
 
 class SessionsTest(unittest.TestCase):
@@ -57,6 +61,20 @@ class SessionsTest(unittest.TestCase):
         self.assertEqual(way((Span(4, 4), Span(0, 6), Span(5, 9), Span(7, 7), Span(2, 2))), (4, 4, 7, 7, 2))
         point = Lead(0, 4).meeting(Lead(1, 0))
         self.assertEqual([point[0].written(), point[1].written()], ["1/5", "4/5"])
+
+    def test_drawing_and_reading_back(self):
+        self.assertEqual(draw("edge a b").ink.written(),
+                         "box 0 0 3 3\nbox 0 7 3 3\nhead 1 7 down\nline 1 3 7\ntext 1 1 a\ntext 1 8 b")
+        self.assertEqual(read_back(draw("edge a b").ink),
+                         (((0, 0, 3, 3, "box", "a", None), (0, 7, 3, 3, "box", "b", None)), ((0, 1, ""),)))
+
+    def test_desks(self):
+        desk = Desk("edge a b")
+        self.assertEqual(run_script(desk, "put 0 group ; put 2 end\nundo\nundo"), ["done", "done", "nothing"])
+        desk = Desk("edge a b")
+        with self.assertRaises(Refused) as caught:
+            desk.do(("take", 1))
+        self.assertEqual(caught.exception.index, 0)
 
 
 if __name__ == "__main__":
