@@ -43,15 +43,15 @@ def came_from(steps, start, barred):
     The walks use no step whose key is in the dict `barred`.
     """
     came = {start: None}
-    latest = [start]
-    while latest:
-        found = []
-        for pair in latest:
-            for target in steps[pair]:
-                if target not in came and step_key(pair, target) not in barred:
-                    came[target] = pair
-                    found.append(target)
-        latest = found
+    reached = [start]
+    done = 0
+    while done < len(reached):
+        pair = reached[done]
+        for target in steps[pair]:
+            if target not in came and step_key(pair, target) not in barred:
+                came[target] = pair
+                reached.append(target)
+        done += 1
     return came
 
 
